@@ -2,6 +2,7 @@ package natural
 
 import (
 	"math/bits"
+	"slices"
 
 	"brepkernel/api"
 )
@@ -21,6 +22,11 @@ func Div(a, b []uint32) (q, r []uint32, e api.Errno) {
 		q = copied(a)
 		rest := divideLimb(q, b[0])
 		return trim(q), Of(uint64(rest)), api.OK
+	case b[0] == 0:
+		// The lowest limbs of a are those of the rest: a power of 2 is a short divisor.
+		n := twos(b) / limbBits
+		q, r, e = Div(a[n:], b[n:])
+		return q, trim(slices.Concat(a[:n], r)), e
 	}
 	q, r = divideLong(a, b)
 	return q, r, api.OK

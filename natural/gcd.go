@@ -7,14 +7,41 @@ import "math/bits"
 const windowBits = 62
 
 // Gcd returns the greatest common divisor.
+//
+// Powers of 2 are taken out first: many denominators have little else.
 func Gcd(a, b []uint32) []uint32 {
+	a, b = trim(a), trim(b)
+	switch {
+	case len(a) == 0:
+		return copied(b)
+	case len(b) == 0:
+		return copied(a)
+	case len(a) <= 2 && len(b) <= 2:
+		return Of(gcdSmall(small(a), small(b)))
+	}
+	twosA, twosB := twos(a), twos(b)
+	return raised(gcdOdd(lowered(a, uint(twosA)), lowered(b, uint(twosB))), min(twosA, twosB))
+}
+
+// twos returns how often 2 divides a number other than 0.
+func twos(a []uint32) int {
+	i := 0
+	for a[i] == 0 {
+		i++
+	}
+	return limbBits*i + bits.TrailingZeros32(a[i])
+}
+
+// gcdOdd returns the greatest common divisor of two odd numbers, and overwrites
+// them.
+func gcdOdd(a, b []uint32) []uint32 {
 	if Cmp(a, b) < 0 {
 		a, b = b, a
 	}
-	if len(a) > 2 {
-		a, b = copied(a), copied(b)
-	}
 	for len(a) > 2 && len(b) > 0 {
+		if len(b) == 1 && b[0] == 1 {
+			return b
+		}
 		a, b = lessen(a, b)
 	}
 	if len(a) > 2 {
@@ -23,12 +50,11 @@ func Gcd(a, b []uint32) []uint32 {
 	return Of(gcdSmall(small(a), small(b)))
 }
 
-// gcdSmall halves and subtracts, which is faster than to divide. x is not less
-// than y, and so 0 only if both are.
+// gcdSmall halves and subtracts, which is faster than to divide. x is not 0.
 func gcdSmall(x, y uint64) uint64 {
 	twos := bits.TrailingZeros64(x | y)
 	x >>= bits.TrailingZeros64(x)
-	for y != 0 {
+	for y != 0 && x != 1 {
 		y >>= bits.TrailingZeros64(y)
 		x, y = min(x, y), max(x, y)-min(x, y)
 	}

@@ -325,6 +325,20 @@ func TestExtremePairs(t *testing.T) {
 	}
 }
 
+// Numbers that end in many zero bits, which are taken out separately.
+func TestPowersOfTwo(t *testing.T) {
+	s := source(6)
+	for _, far := range []uint{0, 1, 31, 32, 33, 64, 100, 9 * api.MaxBits} {
+		for _, near := range []uint{0, 1, 31, 32, 40, 64, 96, 10 * api.MaxBits} {
+			for range 8 {
+				a, b := value(s.someMagnitude(5)), value(s.someMagnitude(5))
+				checkPair(t, limbs(a.Lsh(a, far)), limbs(b.Lsh(b, near)))
+				checkPair(t, limbs(a), limbs(new(big.Int).Lsh(big.NewInt(1), near)))
+			}
+		}
+	}
+}
+
 // Numbers for which the Euclidean algorithm takes the most steps, and the
 // largest ones.
 func TestGcdOfSequences(t *testing.T) {
