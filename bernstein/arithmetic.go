@@ -2,6 +2,7 @@ package bernstein
 
 import (
 	"brepkernel/api"
+	"brepkernel/numbers"
 	"brepkernel/rational"
 )
 
@@ -61,15 +62,15 @@ func Mul(p, q api.Poly) (api.Poly, api.Errno) {
 			sums[i+j] = rational.Add(sums[i+j], rational.Mul(a[i], b[j]))
 		}
 	}
-	scale, weights := rational.Mul(scaleA, scaleB), binomials(n)
-	return build(n, func(i int) api.Rat { return over(sums[i], rational.Mul(scale, weights[i])) }), api.OK
+	scale, weights := rational.Mul(scaleA, scaleB), numbers.Binomials(n)
+	return build(n, func(i int) api.Rat { return numbers.Over(sums[i], rational.Mul(scale, weights[i])) }), api.OK
 }
 
 // weighted returns the coefficients times their binomial coefficients, as integers
 // over a denominator.
 func weighted(p api.Poly) ([]api.Rat, api.Rat) {
-	c, scale := whole(p)
-	weights := binomials(len(p) - 1)
+	c, scale := numbers.Whole(p)
+	weights := numbers.Binomials(len(p) - 1)
 	for i := range c {
 		c[i] = rational.Mul(c[i], weights[i])
 	}

@@ -4,6 +4,7 @@ import (
 	"slices"
 
 	"brepkernel/api"
+	"brepkernel/numbers"
 	"brepkernel/rational"
 )
 
@@ -12,11 +13,11 @@ func Eval(p api.Poly, t api.Rat) api.Rat {
 	if !permitted(p) {
 		return api.Rat{}
 	}
-	c, scale := whole(p)
+	c, scale := numbers.Whole(p)
 	up, down, both := ratio(t)
 	scheme(c, up, down)
 	n := len(p) - 1
-	return over(c[0], geometric(scale, both, n)[n])
+	return numbers.Over(c[0], geometric(scale, both, n)[n])
 }
 
 // Split returns the two parts of a polynomial, each on [0, 1].
@@ -25,18 +26,18 @@ func Split(p api.Poly, t api.Rat) (api.Poly, api.Poly) {
 		return nil, nil
 	}
 	n := len(p) - 1
-	upper, scale := whole(p)
+	upper, scale := numbers.Whole(p)
 	up, down, both := ratio(t)
 	lower := scheme(upper, up, down)
 	scales := geometric(scale, both, n)
-	return build(n, func(i int) api.Rat { return over(lower[i], scales[i]) }),
-		build(n, func(i int) api.Rat { return over(upper[i], scales[n-i]) })
+	return build(n, func(i int) api.Rat { return numbers.Over(lower[i], scales[i]) }),
+		build(n, func(i int) api.Rat { return numbers.Over(upper[i], scales[n-i]) })
 }
 
 // ratio returns integers up, down and their sum, which is positive, so that t is
 // up divided by the sum.
 func ratio(t api.Rat) (up, down, both api.Rat) {
-	both = denominator(t)
+	both = numbers.Denominator(t)
 	up = rational.Mul(t, both)
 	return up, rational.Sub(both, up), both
 }
@@ -57,6 +58,16 @@ func scheme(c []api.Rat, up, down api.Rat) []api.Rat {
 	return lower
 }
 
+// geometric returns the first number, and n more, each of which is the one before
+// it times the factor.
+func geometric(first, factor api.Rat, n int) []api.Rat {
+	out := []api.Rat{first}
+	for i := range n {
+		out = append(out, rational.Mul(out[i], factor))
+	}
+	return out
+}
+
 // Part returns the part between a and b, on [0, 1].
 //
 // The part from a to 1 is cut once more, where b is in it. If a is 1, that part is
@@ -69,8 +80,8 @@ func Part(p api.Poly, a, b api.Rat) api.Poly {
 		p, a, b = mirrored(p), api.Rat{}, rational.Sub(one, b)
 	}
 	n := len(p) - 1
-	c, scale := whole(p)
-	ends, both := whole([]api.Rat{a, b})
+	c, scale := numbers.Whole(p)
+	ends, both := numbers.Whole([]api.Rat{a, b})
 	rest := rational.Sub(both, ends[0])
 	scheme(c, ends[0], rest)
 	factors := geometric(rational.Int(1), both, n)
@@ -79,7 +90,7 @@ func Part(p api.Poly, a, b api.Rat) api.Poly {
 	}
 	lower := scheme(c, rational.Sub(ends[1], ends[0]), rational.Sub(both, ends[1]))
 	scales := geometric(rational.Mul(scale, factors[n]), rest, n)
-	return build(n, func(i int) api.Rat { return over(lower[i], scales[i]) })
+	return build(n, func(i int) api.Rat { return numbers.Over(lower[i], scales[i]) })
 }
 
 // mirrored returns p(1 - x). It has the limbs of p.

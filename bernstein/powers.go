@@ -2,6 +2,7 @@ package bernstein
 
 import (
 	"brepkernel/api"
+	"brepkernel/numbers"
 	"brepkernel/rational"
 )
 
@@ -14,14 +15,14 @@ func ToPowers(p api.Poly) []api.Rat {
 		return nil
 	}
 	n := len(p) - 1
-	c, scale := whole(p)
+	c, scale := numbers.Whole(p)
 	for order := range n {
 		for i := n; i > order; i-- {
 			c[i] = rational.Sub(c[i], c[i-1])
 		}
 	}
-	weights := binomials(n)
-	return build(n, func(i int) api.Rat { return over(rational.Mul(c[i], weights[i]), scale) })
+	weights := numbers.Binomials(n)
+	return build(n, func(i int) api.Rat { return numbers.Over(rational.Mul(c[i], weights[i]), scale) })
 }
 
 // FromPowers returns the polynomial with coefficients of powers.
@@ -32,14 +33,14 @@ func FromPowers(c []api.Rat) (api.Poly, api.Errno) {
 		return nil, api.ErrSize
 	}
 	n := len(c) - 1
-	weights := binomials(n)
-	sums, scale := whole(build(n, func(i int) api.Rat { return over(c[i], weights[i]) }))
+	weights := numbers.Binomials(n)
+	sums, scale := numbers.Whole(build(n, func(i int) api.Rat { return numbers.Over(c[i], weights[i]) }))
 	for order := n; order > 0; order-- {
 		for i := order; i <= n; i++ {
 			sums[i] = rational.Add(sums[i], sums[i-1])
 		}
 	}
-	return build(n, func(i int) api.Rat { return over(sums[i], scale) }), api.OK
+	return build(n, func(i int) api.Rat { return numbers.Over(sums[i], scale) }), api.OK
 }
 
 // Trim returns the same polynomial with the least degree.

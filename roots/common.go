@@ -5,6 +5,7 @@ import (
 	"slices"
 
 	"brepkernel/api"
+	"brepkernel/numbers"
 	"brepkernel/rational"
 )
 
@@ -59,7 +60,7 @@ func digits(n, base api.Rat) []api.Rat {
 	var out []api.Rat
 	middle := rational.Mid(api.Rat{}, base)
 	for rational.Sign(n) != 0 {
-		high := rational.Floor(over(rational.Add(n, middle), base))
+		high := rational.Floor(numbers.Over(rational.Add(n, middle), base))
 		out = append(out, rational.Sub(n, rational.Mul(base, high)))
 		n = high
 	}
@@ -69,7 +70,7 @@ func digits(n, base api.Rat) []api.Rat {
 // divides reports whether a primitive polynomial divides another one. If it does,
 // the quotient has integer coefficients.
 func divides(h, f []api.Rat) bool {
-	if len(over(last(f), last(h)).Den) > 0 {
+	if len(numbers.Over(last(f), last(h)).Den) > 0 {
 		return false
 	}
 	_, rest := divide(f, h)

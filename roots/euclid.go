@@ -5,6 +5,7 @@ import (
 
 	"brepkernel/api"
 	"brepkernel/bernstein"
+	"brepkernel/numbers"
 	"brepkernel/rational"
 )
 
@@ -99,5 +100,5 @@ func oppositeRest(f, g []api.Rat) (api.Rat, []api.Rat) {
 	}
 	_, rest := divide(scaled(times, f), g)
 	content, rest := primitive(rest)
-	return rational.Neg(over(content, times)), rest
+	return rational.Neg(numbers.Over(content, times)), rest
 }

@@ -5,6 +5,7 @@ import (
 
 	"brepkernel/api"
 	"brepkernel/bernstein"
+	"brepkernel/numbers"
 	"brepkernel/rational"
 )
 
@@ -50,7 +51,7 @@ func monic(c []api.Rat) []api.Rat {
 	if len(c) == 0 {
 		return nil
 	}
-	return scaled(over(rational.Int(1), last(c)), c)
+	return scaled(numbers.Over(rational.Int(1), last(c)), c)
 }
 
 // primitive returns a polynomial as a positive number times a primitive one.
@@ -62,7 +63,7 @@ func primitive(c []api.Rat) (api.Rat, []api.Rat) {
 	for _, x := range c {
 		content = divisor(content, x)
 	}
-	return content, scaled(over(rational.Int(1), content), c)
+	return content, scaled(numbers.Over(rational.Int(1), content), c)
 }
 
 // divisor returns the greatest number of which a and b are multiples by integers.
@@ -70,22 +71,8 @@ func divisor(a, b api.Rat) api.Rat {
 	if rational.Sign(a) == 0 {
 		return rational.Abs(b)
 	}
-	ratio := over(b, a)
-	return over(rational.Abs(a), denominator(ratio))
-}
-
-// denominator returns that of a number. It has the limbs of the number.
-func denominator(r api.Rat) api.Rat {
-	if len(r.Den) == 0 {
-		return rational.Int(1)
-	}
-	return api.Rat{Num: r.Den}
-}
-
-// over returns a / b for a b that is not 0.
-func over(a, b api.Rat) api.Rat {
-	q, _ := rational.Quo(a, b)
-	return q
+	ratio := numbers.Over(b, a)
+	return numbers.Over(rational.Abs(a), numbers.Denominator(ratio))
 }
 
 // twoTo returns 2^n.
@@ -115,7 +102,7 @@ func divide(f, g []api.Rat) (quotient, rest []api.Rat) {
 	rest = slices.Clone(f)
 	quotient = make([]api.Rat, max(0, len(f)-degree))
 	for k := range slices.Backward(quotient) {
-		times := over(rest[k+degree], last(g))
+		times := numbers.Over(rest[k+degree], last(g))
 		quotient[k] = times
 		for i, x := range g {
 			rest[k+i] = rational.Sub(rest[k+i], rational.Mul(times, x))

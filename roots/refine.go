@@ -3,6 +3,7 @@ package roots
 import (
 	"brepkernel/api"
 	"brepkernel/bernstein"
+	"brepkernel/numbers"
 	"brepkernel/rational"
 	"brepkernel/span"
 )
@@ -83,10 +84,10 @@ func halved(s api.Poly, in api.Span, times int) api.Span {
 	_, f := primitive(powers(bernstein.Part(s, in.Lo, in.Hi)))
 	parts := twoTo(times)
 	end := func(index api.Rat) api.Rat {
-		return rational.Add(in.Lo, rational.Mul(span.Width(in), over(index, parts)))
+		return rational.Add(in.Lo, rational.Mul(span.Width(in), numbers.Over(index, parts)))
 	}
 	index := cell(f, times)
-	if rational.Sign(index) > 0 && rational.Sign(valueAt(f, over(index, parts))) == 0 {
+	if rational.Sign(index) > 0 && rational.Sign(valueAt(f, numbers.Over(index, parts))) == 0 {
 		return span.Point(end(index))
 	}
 	return span.Of(end(index), end(rational.Add(index, rational.Int(1))))
@@ -104,7 +105,7 @@ func cell(f []api.Rat, times int) api.Rat {
 		return api.Rat{}
 	}
 	parts, more := twoTo(times), twoTo(times-times/2)
-	value := func(index api.Rat) api.Rat { return valueAt(f, over(index, parts)) }
+	value := func(index api.Rat) api.Rat { return valueAt(f, numbers.Over(index, parts)) }
 	low := rational.Mul(cell(f, times/2), more)
 	high := rational.Add(low, more)
 	next := crossing(low, high, value(low), value(high))
@@ -125,7 +126,7 @@ func cell(f []api.Rat, times int) api.Rat {
 // crossing returns the integer between low and high at or next to which the straight
 // line through these values is 0.
 func crossing(low, high, atLow, atHigh api.Rat) api.Rat {
-	way := over(rational.Mul(rational.Sub(high, low), atLow), rational.Sub(atLow, atHigh))
+	way := numbers.Over(rational.Mul(rational.Sub(high, low), atLow), rational.Sub(atLow, atHigh))
 	one := rational.Int(1)
 	return rational.Max(rational.Add(low, one), rational.Min(rational.Sub(high, one), rational.Floor(rational.Add(low, way))))
 }

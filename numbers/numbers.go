@@ -1,0 +1,56 @@
+// Package numbers is what several layers need to compute with many numbers.
+//
+// Sums and products of fractions are brought to lowest terms each time, which is
+// slow where there are many. So the layers compute with integers over one
+// denominator, and divide by it in the end.
+package numbers
+
+import (
+	"brepkernel/api"
+	"brepkernel/rational"
+)
+
+// Whole returns integers and a denominator, over which they are the numbers. It
+// is the least one.
+func Whole(c []api.Rat) ([]api.Rat, api.Rat) {
+	scale := rational.Int(1)
+	for _, r := range c {
+		scale = rational.Mul(scale, Denominator(rational.Mul(scale, r)))
+	}
+	out := make([]api.Rat, len(c))
+	for i, r := range c {
+		out[i] = rational.Mul(scale, r)
+	}
+	return out, scale
+}
+
+// Denominator returns that of a number.
+func Denominator(r api.Rat) api.Rat {
+	if len(r.Den) == 0 {
+		return rational.Int(1)
+	}
+	return rational.Abs(api.Rat{Num: r.Den})
+}
+
+// Over returns r / d, or 0 if d is 0.
+func Over(r, d api.Rat) api.Rat {
+	q, _ := rational.Quo(r, d)
+	return q
+}
+
+// Binomials returns the row n of Pascal's triangle. Up to api.MaxPoly, its numbers
+// are far from the greatest int64.
+func Binomials(n int) []api.Rat {
+	row := []int64{1}
+	for range n {
+		row = append(row, 1)
+		for i := len(row) - 2; i > 0; i-- {
+			row[i] += row[i-1]
+		}
+	}
+	out := make([]api.Rat, len(row))
+	for i, x := range row {
+		out[i] = rational.Int(x)
+	}
+	return out
+}
