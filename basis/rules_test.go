@@ -193,7 +193,8 @@ func snapshot(x arguments) string {
 func TestArgumentsStay(t *testing.T) {
 	for _, x := range append(validArguments(), invalidArguments()...) {
 		before := snapshot(x)
-		given := slices.Concat(regions(x.K), regions(x.C), regions(x.Args), regions([]api.Rat{x.T}))
+		// The list with x.T is none of the arguments: a result may get its memory.
+		given := slices.Concat(regions(x.K), regions(x.C), regions(x.Args), regions([]api.Rat{x.T})[1:])
 		for _, c := range calls() {
 			out := c.of(x)
 			if shared(slices.Concat(regions(out.list), given)) {

@@ -4,6 +4,7 @@ import (
 	"slices"
 
 	"brepkernel/api"
+	"brepkernel/numbers"
 	"brepkernel/rational"
 )
 
@@ -13,7 +14,7 @@ func Insert(k []api.Rat, t api.Rat) []api.Rat {
 	if at < 0 {
 		at = len(k)
 	}
-	return slices.Insert(each(k, copied), at, copied(t))
+	return slices.Insert(each(k, numbers.Copy), at, numbers.Copy(t))
 }
 
 // Greville returns the abscissas of the poles.

@@ -4,6 +4,7 @@ import (
 	"slices"
 
 	"brepkernel/api"
+	"brepkernel/numbers"
 	"brepkernel/rational"
 )
 
@@ -41,12 +42,7 @@ func Distinct(k []api.Rat) []api.Rat {
 	slices.SortFunc(sorted, rational.Cmp)
 	var out []api.Rat
 	for from := range runs(sorted) {
-		out = append(out, copied(sorted[from]))
+		out = append(out, numbers.Copy(sorted[from]))
 	}
 	return out
-}
-
-// copied returns a number with limbs of its own.
-func copied(r api.Rat) api.Rat {
-	return api.Rat{Neg: r.Neg, Num: slices.Clone(r.Num), Den: slices.Clone(r.Den)}
 }

@@ -170,7 +170,8 @@ func snapshot(x arguments) string {
 func TestArgumentsStay(t *testing.T) {
 	for _, x := range append(validArguments(), invalidArguments()...) {
 		before := snapshot(x)
-		given := slices.Concat(regions(x.K), regions([]api.Rat{x.T, x.A, x.B}))
+		// The list of these three is none of the arguments: a result may get its memory.
+		given := slices.Concat(regions(x.K), regions([]api.Rat{x.T, x.A, x.B})[1:])
 		for _, c := range calls() {
 			out := c.of(x)
 			if snapshot(x) != before {

@@ -6,9 +6,16 @@
 package numbers
 
 import (
+	"slices"
+
 	"brepkernel/api"
 	"brepkernel/rational"
 )
+
+// Copy returns a number with limbs of its own.
+func Copy(r api.Rat) api.Rat {
+	return api.Rat{Neg: r.Neg, Num: slices.Clone(r.Num), Den: slices.Clone(r.Den)}
+}
 
 // Whole returns integers and a denominator, over which they are the numbers. It
 // is the least one.
@@ -36,6 +43,12 @@ func Denominator(r api.Rat) api.Rat {
 func Over(r, d api.Rat) api.Rat {
 	q, _ := rational.Quo(r, d)
 	return q
+}
+
+// Share returns how much of the way from low to high lies before t, or 0 if there is
+// no way.
+func Share(low, high, t api.Rat) api.Rat {
+	return Over(rational.Sub(t, low), rational.Sub(high, low))
 }
 
 // Binomials returns the row n of Pascal's triangle. Up to api.MaxPoly, its numbers

@@ -2,6 +2,7 @@ package numbers_test
 
 import (
 	"math/big"
+	"slices"
 	"strings"
 	"testing"
 
@@ -35,6 +36,16 @@ func show(c []api.Rat) string {
 	return strings.Join(words, " ")
 }
 
+// A copy is the same limb by limb, also of a number that is not valid.
+func TestCopy(t *testing.T) {
+	for _, r := range append(list("0 7 -1/3 18446744073709551617/18446744073709551616"), api.Rat{Neg: true}, api.Rat{Num: []uint32{5, 0}, Den: []uint32{0}}) {
+		got := numbers.Copy(r)
+		if got.Neg != r.Neg || !slices.Equal(got.Num, r.Num) || !slices.Equal(got.Den, r.Den) {
+			t.Errorf("Copy(%v) = %v", r, got)
+		}
+	}
+}
+
 func TestWhole(t *testing.T) {
 	for _, c := range []struct{ list, whole, scale string }{
 		{"", "", "1"}, {"0", "0", "1"}, {"3 -4", "3 -4", "1"}, {"1/2", "1", "2"}, {"-1/2 1/3 5", "-3 2 30", "6"},
@@ -60,6 +71,14 @@ func TestOver(t *testing.T) {
 	for _, c := range [][3]string{{"1", "3", "1/3"}, {"-3/2", "1/2", "-3"}, {"0", "-5", "0"}, {"5", "0", "0"}, {"0", "0", "0"}} {
 		if got := numbers.Over(num(c[0]), num(c[1])); rational.Text(got) != c[2] {
 			t.Errorf("Over(%s; %s) = %s", c[0], c[1], rational.Text(got))
+		}
+	}
+}
+
+func TestShare(t *testing.T) {
+	for _, c := range [][4]string{{"0", "1", "1/3", "1/3"}, {"2", "4", "3", "1/2"}, {"2", "4", "2", "0"}, {"2", "4", "4", "1"}, {"-1", "1/2", "5", "4"}, {"1", "3", "0", "-1/2"}, {"3", "1", "5/2", "1/4"}, {"2", "2", "3", "0"}} {
+		if got := numbers.Share(num(c[0]), num(c[1]), num(c[2])); rational.Text(got) != c[3] {
+			t.Errorf("Share(%s; %s; %s) = %s", c[0], c[1], c[2], rational.Text(got))
 		}
 	}
 }
@@ -95,7 +114,7 @@ func TestResultsAreNew(t *testing.T) {
 	scribble(whole...)
 	scribble(scale)
 	for _, r := range arguments {
-		scribble(numbers.Denominator(r), numbers.Over(r, rational.Int(1)))
+		scribble(numbers.Copy(r), numbers.Denominator(r), numbers.Over(r, rational.Int(1)), numbers.Share(api.Rat{}, rational.Int(1), r))
 	}
 	scribble(numbers.Binomials(4)...)
 	if show(arguments) != before || show(numbers.Binomials(4)) != "1 4 6 4 1" {
