@@ -12,7 +12,7 @@ import (
 
 // Mirror returns the curve in the other direction.
 func Mirror(c api.Curve) api.Curve {
-	out := api.Curve{Degree: c.Degree, Knots: knots.Mirror(c.Knots), Poles: each(c.Poles, copied)}
+	out := api.Curve{Degree: c.Degree, Knots: knots.Mirror(c.Knots), Poles: numbers.Each(c.Poles, numbers.CopyPole)}
 	slices.Reverse(out.Poles)
 	return out
 }
@@ -23,12 +23,12 @@ func Affine(c api.Curve, a, b api.Rat) (api.Curve, api.Errno) {
 	if e != api.OK {
 		return api.Curve{}, e
 	}
-	return api.Curve{Degree: c.Degree, Knots: k, Poles: each(c.Poles, copied)}, api.OK
+	return api.Curve{Degree: c.Degree, Knots: k, Poles: numbers.Each(c.Poles, numbers.CopyPole)}, api.OK
 }
 
 // Move returns the image of a curve.
 func Move(c api.Curve, m api.Map) api.Curve {
-	return api.Curve{Degree: c.Degree, Knots: each(c.Knots, numbers.Copy), Poles: each(c.Poles, func(p api.Pole) api.Pole {
+	return api.Curve{Degree: c.Degree, Knots: numbers.Each(c.Knots, numbers.Copy), Poles: numbers.Each(c.Poles, func(p api.Pole) api.Pole {
 		return api.Pole{P: vector.Apply(m, p.P), W: numbers.Copy(p.W)}
 	})}
 }
@@ -38,14 +38,14 @@ func Join(c, d api.Curve) (api.Curve, api.Errno) {
 	if e := joins(c, d); e != api.OK {
 		return api.Curve{}, e
 	}
-	poles := each(c.Poles, copied)
+	poles := numbers.Each(c.Poles, numbers.CopyPole)
 	scale := numbers.Over(c.Poles[len(c.Poles)-1].W, d.Poles[0].W)
 	for _, p := range d.Poles[1:] {
-		p = copied(p)
+		p = numbers.CopyPole(p)
 		p.W = rational.Mul(scale, p.W)
 		poles = append(poles, p)
 	}
-	k := each(c.Knots[:len(c.Knots)-1], numbers.Copy)
+	k := numbers.Each(c.Knots[:len(c.Knots)-1], numbers.Copy)
 	shift := rational.Sub(Domain(c).Hi, Domain(d).Lo)
 	for _, t := range d.Knots[d.Degree+1:] {
 		k = append(k, rational.Add(t, shift))

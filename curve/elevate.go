@@ -6,6 +6,7 @@ import (
 
 	"brepkernel/api"
 	"brepkernel/basis"
+	"brepkernel/homogeneous"
 	"brepkernel/knots"
 	"brepkernel/numbers"
 	"brepkernel/rational"
@@ -57,7 +58,7 @@ func (s spline) elevated(k []api.Rat) spline {
 	for j := range knots.Poles(k, out.degree) {
 		piece, _ := knots.Interval(s.knots, s.degree, k[j])
 		args := k[j+1 : j+1+out.degree]
-		out.poles = append(out.poles, quadOf(func(i int) api.Rat { return forms[i].elevated(piece, args) }))
+		out.poles = append(out.poles, homogeneous.Make(func(i int) api.Rat { return forms[i].elevated(piece, args) }))
 	}
 	return out
 }
@@ -69,7 +70,7 @@ type polarForm func(piece int, args []api.Rat) api.Rat
 func (s spline) polarForms() [4]polarForm {
 	var out [4]polarForm
 	for i := range out {
-		c := each(s.poles, func(q quad) api.Rat { return q[i] })
+		c := numbers.Each(s.poles, func(q homogeneous.Pole) api.Rat { return q[i] })
 		out[i] = func(piece int, args []api.Rat) api.Rat {
 			value, _ := basis.Blossom(s.knots, s.degree, c, piece, args)
 			return value

@@ -4,55 +4,18 @@ import (
 	"slices"
 
 	"brepkernel/api"
+	"brepkernel/homogeneous"
 	"brepkernel/knots"
 	"brepkernel/numbers"
 	"brepkernel/rational"
 )
-
-// quad is a pole in homogeneous coordinates: W x, W y, W z and W.
-type quad [4]api.Rat
-
-// quadOf returns what f makes of the indices of the coordinates.
-func quadOf(f func(i int) api.Rat) quad {
-	var out quad
-	for i := range out {
-		out[i] = f(i)
-	}
-	return out
-}
-
-// lifted returns the homogeneous coordinates of a pole.
-func lifted(p api.Pole) quad {
-	return quadOf(func(i int) api.Rat {
-		if i < 3 {
-			return rational.Mul(p.W, p.P[i])
-		}
-		return p.W
-	})
-}
-
-// pole returns the pole with these coordinates, with memory of its own.
-func (q quad) pole() api.Pole {
-	out := api.Pole{W: numbers.Copy(q[3])}
-	for i := range out.P {
-		out.P[i] = numbers.Over(q[i], q[3])
-	}
-	return out
-}
-
-// between returns the coordinates for this share of the way from q to r.
-func (q quad) between(r quad, share api.Rat) quad {
-	return quadOf(func(i int) api.Rat {
-		return rational.Add(q[i], rational.Mul(share, rational.Sub(r[i], q[i])))
-	})
-}
 
 // spline is a curve by its homogeneous functions. It may have more poles than a
 // curve may, and it may share memory with curves and with other splines.
 type spline struct {
 	degree int
 	knots  []api.Rat
-	poles  []quad
+	poles  []homogeneous.Pole
 }
 
 // splineOf returns the spline of a curve. What is done with splines relies on knots
@@ -64,12 +27,12 @@ func splineOf(c api.Curve) (spline, api.Errno) {
 	if e := fits(c); e != api.OK {
 		return spline{}, e
 	}
-	return spline{c.Degree, c.Knots, each(c.Poles, lifted)}, api.OK
+	return spline{c.Degree, c.Knots, numbers.Each(c.Poles, homogeneous.Of)}, api.OK
 }
 
 // curve returns the curve of a spline, with memory of its own.
 func (s spline) curve() api.Curve {
-	return api.Curve{Degree: s.degree, Knots: each(s.knots, numbers.Copy), Poles: each(s.poles, quad.pole)}
+	return api.Curve{Degree: s.degree, Knots: numbers.Each(s.knots, numbers.Copy), Poles: numbers.Each(s.poles, homogeneous.Pole.Plain)}
 }
 
 // has reports whether t is between the first and the last knot.
@@ -86,7 +49,7 @@ func (s spline) insert(t api.Rat) spline {
 	poles := slices.Clone(s.poles[:first+1])
 	for j := first + 1; j <= at; j++ {
 		share := numbers.Share(s.knots[j], s.knots[j+s.degree], t)
-		poles = append(poles, s.poles[j-1].between(s.poles[j], share))
+		poles = append(poles, s.poles[j-1].Between(s.poles[j], share))
 	}
 	return spline{s.degree, knots.Insert(s.knots, t), append(poles, s.poles[at:]...)}
 }

@@ -14,7 +14,7 @@ func Insert(k []api.Rat, t api.Rat) []api.Rat {
 	if at < 0 {
 		at = len(k)
 	}
-	return slices.Insert(each(k, numbers.Copy), at, numbers.Copy(t))
+	return slices.Insert(numbers.Each(k, numbers.Copy), at, numbers.Copy(t))
 }
 
 // Greville returns the abscissas of the poles.
@@ -44,7 +44,7 @@ func Affine(k []api.Rat, a, b api.Rat) ([]api.Rat, api.Errno) {
 	if e != api.OK {
 		return nil, api.ErrKnots
 	}
-	return each(k, func(t api.Rat) api.Rat {
+	return numbers.Each(k, func(t api.Rat) api.Rat {
 		return rational.Add(a, rational.Mul(rational.Sub(t, first), scale))
 	}), api.OK
 }
@@ -53,7 +53,7 @@ func Affine(k []api.Rat, a, b api.Rat) ([]api.Rat, api.Errno) {
 func Mirror(k []api.Rat) []api.Rat {
 	first, last := ends(k)
 	sum := rational.Add(first, last)
-	out := each(k, func(t api.Rat) api.Rat { return rational.Sub(sum, t) })
+	out := numbers.Each(k, func(t api.Rat) api.Rat { return rational.Sub(sum, t) })
 	slices.Reverse(out)
 	return out
 }
@@ -64,13 +64,4 @@ func ends(k []api.Rat) (first, last api.Rat) {
 		return api.Rat{}, api.Rat{}
 	}
 	return k[0], k[len(k)-1]
-}
-
-// each returns the list of what f makes of the numbers.
-func each(k []api.Rat, f func(r api.Rat) api.Rat) []api.Rat {
-	out := make([]api.Rat, len(k))
-	for i, r := range k {
-		out[i] = f(r)
-	}
-	return out
 }

@@ -17,6 +17,24 @@ func Copy(r api.Rat) api.Rat {
 	return api.Rat{Neg: r.Neg, Num: slices.Clone(r.Num), Den: slices.Clone(r.Den)}
 }
 
+// CopyPole returns a pole with limbs of its own.
+func CopyPole(p api.Pole) api.Pole {
+	out := api.Pole{W: Copy(p.W)}
+	for i, r := range p.P {
+		out.P[i] = Copy(r)
+	}
+	return out
+}
+
+// Each returns the list of what f makes of the elements.
+func Each[T, U any](list []T, f func(x T) U) []U {
+	out := make([]U, len(list))
+	for i, x := range list {
+		out[i] = f(x)
+	}
+	return out
+}
+
 // Whole returns integers and a denominator, over which they are the numbers. It
 // is the least one.
 func Whole(c []api.Rat) ([]api.Rat, api.Rat) {

@@ -46,6 +46,31 @@ func TestCopy(t *testing.T) {
 	}
 }
 
+// A copy of a pole has the same numbers, and limbs of its own.
+func TestCopyPole(t *testing.T) {
+	l := list("7 -1/3 0 18446744073709551617")
+	p := api.Pole{P: api.Point{l[0], l[1], l[2]}, W: l[3]}
+	got := numbers.CopyPole(p)
+	all := []api.Rat{got.P[0], got.P[1], got.P[2], got.W}
+	if show(all) != show(l) {
+		t.Errorf("CopyPole = %s", show(all))
+	}
+	for _, r := range all {
+		clear(r.Num)
+		clear(r.Den)
+	}
+	if show([]api.Rat{p.P[0], p.P[1], p.P[2], p.W}) != "7 -1/3 0 18446744073709551617" {
+		t.Errorf("CopyPole has the limbs of the pole")
+	}
+}
+
+func TestEach(t *testing.T) {
+	lengths := numbers.Each([]string{"", "a", "abc"}, func(s string) int { return len(s) })
+	if !slices.Equal(lengths, []int{0, 1, 3}) || len(numbers.Each(nil, func(r api.Rat) string { return "" })) != 0 {
+		t.Errorf("Each = %v", lengths)
+	}
+}
+
 func TestWhole(t *testing.T) {
 	for _, c := range []struct{ list, whole, scale string }{
 		{"", "", "1"}, {"0", "0", "1"}, {"3 -4", "3 -4", "1"}, {"1/2", "1", "2"}, {"-1/2 1/3 5", "-3 2 30", "6"},
